@@ -1,0 +1,1 @@
+"""Windowcuts: pressed streams cut, lost, joined and put otherwise."""
