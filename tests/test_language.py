@@ -94,7 +94,7 @@ class Language(unittest.TestCase):
             own = set(imports(tree)) | {node.name for node in tree.body if isinstance(node, ast.ClassDef)}
             self.assertEqual(bound & own, set())
             for node in ast.walk(tree):
-                if isinstance(node, ast.Name) and hasattr(builtins, node.id):
+                if isinstance(node, ast.Name) and hasattr(builtins, node.id) and node.id != "_":
                     self.assertIn(node.id, BUILTINS)
 
     def test_methods_of_builtin_values(self):

@@ -116,6 +116,7 @@ class OfPlaces(unittest.TestCase):
             ("say", 13), ("say", "1"), ("text", "a"), ("any", "ab"), ("flush",), ("flush", 1), ("flush", ""),
         ]:
             self.wrong(1, "ab", [place], [])
+            self.wrong(1, "ab", [place], None)
         self.wrong(1, "ab", [("sign", "a")] * 41, [])
         self.wrong(1, "ab", (("sign", "a"),), [])
         self.wrong(1, "ab", [], [])
@@ -171,6 +172,11 @@ class Telling(unittest.TestCase):
     def test_length_is_of_signs(self):
         self.assertEqual(len(Piece("ab", [FLUSH, ("copy", 2, 7), FLUSH])), 7)
         self.assertEqual(len(Piece("ab", [("text", "a" * 40)])), 40)
+
+    def test_signs_that_spell_kinds(self):
+        piece = Piece("fhlsu", [("text", "flush"), ("copy", 5, 5), FLUSH, ("text", "flush")])
+        self.assertEqual((piece.flushes(), len(piece), piece.needs()), ([10], 15, 0))
+        self.assertEqual(Piece("copy", [("any", "copy"), ("text", "copy")]).holes(), ["copy"])
 
     def test_repr(self):
         piece = Piece("abc", [("text", "ca"), FLUSH, ("copy", 2, 3), ("any", "ac"), ("say", 1, 1)])
