@@ -48,6 +48,37 @@ STAGE_3 = """
 [[('text', 'b'), ('text', 'a')], [('copy', 2, 1)], [('flush',), ('text', 'ab'), ('copy', 2, 1)]]
 """
 
+STAGE_4 = STAGE_3 + """
+>>> from windowcuts.counts import least_kept, refused_row, unsound
+>>> from windowcuts.frames import Frame
+>>> from windowcuts.origins import chain
+>>> from windowcuts.roots import reader_roots, text_roots
+>>> [text_roots(tail), reader_roots(tail)]
+[[('slot', 2), ('slot', 1), ('slot', 2)], [('place', 0), ('place', 1), ('place', 0)]]
+>>> [(Frame(3) << again).roots(), (Frame(3) << begin << again)[2]]
+[[('slot', 2), ('slot', 1), ('slot', 2)], ('sign', 'a')]
+>>> [chain(plan, row, 2), chain(plan, row, 5), least_kept(plan), unsound(plan)]
+[[(1, 0), (0, 0)], [(2, 2), (2, 0)], {'s': 0, 't': 2, 'u': 3}, []]
+>>> short = plan.changed("skip", "s", "t", Piece("ab", [("text", "b")]))
+>>> [unsound(short), refused_row(short, "more", 0)]
+[[('end', 0), ('more', 0)], ['skip', 'more']]
+"""
+
+STAGE_5 = """
+>>> from windowcuts.facts import Facts
+>>> from windowcuts.pieces import Piece
+>>> from windowcuts.plans import Plan
+>>> twins = {"a": ("s", "t", Piece("ab", [("text", "aa")])), "b": ("s", "t", Piece("ab", [("text", "bb")]))}
+>>> twins["c"] = ("t", "t", Piece("ab", [("copy", 2, 1)]))
+>>> plan = Plan("ab", 3, "s", twins)
+>>> facts = Facts(plan)
+>>> [facts.signs_in("t", 1), facts.equals("t"), facts.differ_row("t", 1, 2), facts.value_row("t", 3, "b")]
+['ab', [(1, 2), (1, 3), (2, 3)], None, (['b', 'c'], [])]
+>>> wide = plan.changed("d", "t", "t", Piece("ab", [("any", "b")]))
+>>> [Facts(wide).differ_row("t", 2, 1), Facts(wide).equals("t"), Facts(wide).unlike("t", ("hole", 0), ("slot", 1), ["b"])]
+[(['a', 'd'], ['b']), [], True]
+"""
+
 
 class Examples(unittest.TestCase):
     def check(self, text):
@@ -65,6 +96,12 @@ class Examples(unittest.TestCase):
 
     def test_stage_3(self):
         self.check(STAGE_3)
+
+    def test_stage_4(self):
+        self.check(STAGE_4)
+
+    def test_stage_5(self):
+        self.check(STAGE_5)
 
 
 if __name__ == "__main__":

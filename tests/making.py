@@ -1,0 +1,113 @@
+"""Plans made at random, and what happens on their rows, counted sign by sign."""
+
+import itertools
+
+from test_pieces import FLUSH
+from windowcuts.counts import unsound
+from windowcuts.pieces import Piece
+from windowcuts.plans import Plan
+
+
+def raised(test, kind, call, *arguments):
+    with test.assertRaises(kind) as caught:
+        call(*arguments)
+    test.assertIs(type(caught.exception), kind)
+    return caught.exception
+
+
+def made_piece(chance, width, signs="ab", most=4):
+    """A piece of a few tokens with distances of at most the width."""
+    tokens = []
+    for _ in range(chance.randint(1, most)):
+        kind = chance.choice(["text", "any", "copy", "copy", "copy", "say", "flush"])
+        if kind == "text":
+            tokens.append(("text", "".join(chance.choice(signs) for _ in range(chance.randint(1, 2)))))
+        elif kind == "any":
+            choice = "".join(sign for sign in signs if chance.random() < 0.6) or chance.choice(signs)
+            tokens.append(("any", choice))
+        elif kind == "flush":
+            tokens.append(FLUSH)
+        else:
+            tokens.append((kind, chance.randint(1, width), chance.randint(1, 3)))
+    if all(token == FLUSH for token in tokens):
+        tokens.append(("text", chance.choice(signs)))
+    return Piece(signs, tokens)
+
+
+def made_plan(chance, states="stu", edges="abcd", width=3, signs="ab", most=4):
+    """Any plan, sound or not."""
+    made = {name: (chance.choice(states), chance.choice(states), made_piece(chance, width, signs, most)) for name in edges}
+    return Plan(signs, width, states[0], made)
+
+
+def made_sound(chance, **how):
+    """A sound plan: what could be refused is told as a text."""
+    plan = made_plan(chance, **how)
+    while unsound(plan):
+        edge, index = unsound(plan)[0]
+        source, target, piece = plan[edge]
+        places = piece.places()
+        places[index] = ("sign", chance.choice(plan.signs))
+        plan = plan.changed(edge, source, target, Piece.of_places(plan.signs, places, piece.flushes()))
+    return plan
+
+
+def one_line(*pieces, width=3, signs="ab"):
+    """A plan with one row of these lists of tokens, and this row."""
+    states = "stuvwxyz"
+    edges = {}
+    for at, tokens in enumerate(pieces):
+        edges["abcdefg"[at]] = (states[at], states[at + 1], Piece(signs, tokens))
+    return Plan(signs, width, "s", edges), list(edges)
+
+
+def loops(width, signs="ab", **pieces):
+    """A plan of rings from its start to its start."""
+    return Plan(signs, width, "s", {name: ("s", "s", Piece(signs, tokens)) for name, tokens in pieces.items()})
+
+
+def fills(choices):
+    return [list(fill) for fill in itertools.product(*choices)]
+
+
+def added(piece, fill, width, tail, kept):
+    """What stands in the window, and how much of it is kept, behind a piece; None where it is refused."""
+    left = list(fill)
+    for token in piece.tokens():
+        kind = token[0]
+        if kind == "flush":
+            kept = 0
+            continue
+        many = {"text": 1, "any": 1}.get(kind) or token[2]
+        for sign in token[1] if kind == "text" else [None] * many:
+            if kind == "any":
+                sign = left.pop(0)
+            elif kind in ("copy", "say"):
+                if token[1] > (kept if kind == "copy" else len(tail)):
+                    return None
+                sign = tail[-token[1]]
+            tail = (tail + sign)[-width:]
+            kept = min(kept + 1, width)
+    return tail, kept
+
+
+def worlds(plan, limit=4000):
+    """All tuples (state, window, number of kept signs) behind rows that are not refused, with a row and a fill.
+
+    They come with the fewest edges first; a plan with too many of them gives None.
+    """
+    first = (plan.start, "", 0)
+    found = {first: ([], [])}
+    queue = [first]
+    for state, tail, kept in queue:
+        row, fill = found[state, tail, kept]
+        for edge in plan.out(state):
+            _, target, piece = plan[edge]
+            for more in fills(piece.holes()):
+                behind = added(piece, more, plan.width, tail, kept)
+                if behind is not None and (target, *behind) not in found:
+                    found[(target, *behind)] = (row + [edge], fill + more)
+                    queue.append((target, *behind))
+        if len(found) > limit:
+            return None
+    return found
