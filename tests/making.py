@@ -34,10 +34,24 @@ def made_piece(chance, width, signs="ab", most=4):
     return Piece(signs, tokens)
 
 
-def made_plan(chance, states="stu", edges="abcd", width=3, signs="ab", most=4):
-    """Any plan, sound or not."""
-    made = {name: (chance.choice(states), chance.choice(states), made_piece(chance, width, signs, most)) for name in edges}
-    return Plan(signs, width, states[0], made)
+def made_plan(chance, states="stu", edges="abcd", width=3, signs="ab", most=4, onward=False, filled=False):
+    """Any plan, sound or not.
+
+    One that leads onward has no rings; one that is filled writes as many signs as its width first.
+    """
+    made = {}
+    if filled:
+        first = [("hole", signs) if chance.random() < 0.7 else ("sign", chance.choice(signs)) for _ in range(width)]
+        made["in"] = ("begin", states[0], Piece.of_places(signs, first, []))
+    linked = chance.random() < 0.6
+    for at, name in enumerate(edges):
+        ends = [chance.choice(states), chance.choice(states)]
+        if linked and at < len(states):
+            ends = [states[at], states[(at + 1) % len(states)]]
+        if onward:
+            ends = sorted(chance.sample(states, 2), key=states.index)
+        made[name] = (*ends, made_piece(chance, width, signs, most))
+    return Plan(signs, width, "begin" if filled else states[0], made)
 
 
 def made_sound(chance, **how):
@@ -111,3 +125,45 @@ def worlds(plan, limit=4000):
         if len(found) > limit:
             return None
     return found
+
+
+def hung(piece, width, slots):
+    """The places of a piece that are copies of any of these slots, and the slots behind it that are."""
+    line = [slot in slots for slot in range(width, 0, -1)]
+    found = []
+    for index, (kind, told) in enumerate(piece.places()):
+        line.append(kind == "copy" and line[-told])
+        if line[-1]:
+            found.append(index)
+    return found, frozenset(slot for slot in range(1, width + 1) if line[-slot])
+
+
+def hangings(plan, mark):
+    """All tuples (state, set of slots) on paths from a mark, each with its list of (edge, places, node behind)."""
+    first = (mark[0], frozenset([mark[1]]))
+    found = {first: None}
+    queue = [first]
+    for node in queue:
+        found[node] = []
+        for edge in plan.out(node[0]):
+            places, slots = hung(plan[edge][2], plan.width, node[1])
+            behind = (plan[edge][1], slots)
+            found[node].append((edge, places, behind))
+            if behind not in found:
+                found[behind] = None
+                queue.append(behind)
+    return found
+
+
+def along(plan, edge, node):
+    """The tuples (kept, written) ahead of each place of an edge, and behind it, counted sign by sign."""
+    _, kept, written = node
+    told = []
+    for token in plan[edge][2].tokens():
+        if token[0] == "flush":
+            kept = 0
+        many = {"text": lambda: len(token[1]), "any": lambda: 1, "flush": lambda: 0}.get(token[0], lambda: token[2])()
+        for _ in range(many):
+            told.append((kept, written))
+            kept, written = min(kept + 1, plan.width), min(written + 1, plan.width)
+    return told + [(kept, written)]

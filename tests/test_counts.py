@@ -1,7 +1,7 @@
 import random
 import unittest
 
-from making import loops, made_plan, made_sound, one_line, raised
+from making import along, loops, made_plan, made_sound, one_line, raised
 from oddities import ODD, but
 from test_pieces import FLUSH
 from windowcuts.counts import is_kept_paper, least_kept, least_written, refused_row, unsound
@@ -27,20 +27,6 @@ def numbers_behind(plan):
                 found[behind] = found[node] + 1
                 queue.append(behind)
     return found
-
-
-def along(plan, edge, node):
-    """The tuples (kept, written) ahead of each place of an edge, and behind it, counted sign by sign."""
-    _, kept, written = node
-    told = []
-    for token in plan[edge][2].tokens():
-        if token[0] == "flush":
-            kept = 0
-        many = {"text": lambda: len(token[1]), "any": lambda: 1, "flush": lambda: 0}.get(token[0], lambda: token[2])()
-        for _ in range(many):
-            told.append((kept, written))
-            kept, written = min(kept + 1, plan.width), min(written + 1, plan.width)
-    return told + [(kept, written)]
 
 
 def refusals(plan):
@@ -228,6 +214,16 @@ class Papers(unittest.TestCase):
             {"s": 0, b"t": 2}, {"s": 0, 1: 2}, {"s": 0, ("t",): 2}, {"s": 0, "T": 2}, {True: 0, "t": 2},
         ]:
             self.assertFalse(self.holds(thing), thing)
+
+    def test_keys_that_are_equal_to_all(self):
+        class Sly:
+            def __eq__(self, other):
+                return True
+
+            def __hash__(self):
+                return 0
+
+        self.assertFalse(self.holds({"s": 0, Sly(): 2}) or self.holds({Sly(): 0, "t": 2}))
 
     def test_wrong_values(self):
         for thing in but(0, 1, 2):

@@ -65,6 +65,7 @@ STAGE_4 = STAGE_3 + """
 """
 
 STAGE_5 = """
+>>> from windowcuts.claims import all_claims, are_claims
 >>> from windowcuts.facts import Facts
 >>> from windowcuts.pieces import Piece
 >>> from windowcuts.plans import Plan
@@ -77,6 +78,29 @@ STAGE_5 = """
 >>> wide = plan.changed("d", "t", "t", Piece("ab", [("any", "b")]))
 >>> [Facts(wide).differ_row("t", 2, 1), Facts(wide).equals("t"), Facts(wide).unlike("t", ("hole", 0), ("slot", 1), ["b"])]
 [(['a', 'd'], ['b']), [], True]
+>>> values, equals = all_claims(plan)
+>>> [are_claims(plan, values, equals), are_claims(wide, values, equals), are_claims(wide, values, [])]
+[True, False, True]
+"""
+
+STAGE_6 = """
+>>> from windowcuts.pieces import Piece
+>>> from windowcuts.plans import Plan
+>>> from windowcuts.alone import beginnings, settles
+>>> from windowcuts.damage import Damage, lost_marks
+>>> from windowcuts.harms import harm
+>>> begin, more = Piece("ab", [("any", "ab"), ("text", "a")]), Piece("ab", [("copy", 2, 1), ("text", "b")])
+>>> tail = Piece("ab", [("copy", 1, 1), ("flush",), ("text", "ab")])
+>>> edges = {"new": ("s", "t", begin), "more": ("t", "t", more), "end": ("t", "u", tail)}
+>>> plan = Plan("ab", 3, "s", edges)
+>>> lost = Damage(plan, lost_marks(plan, "new"))
+>>> [lost.slots(), lost.places(), lost.until(), lost.ring() is None]
+[[('t', 1), ('t', 2), ('t', 3), ('u', 3)], [('end', 0), ('more', 0)], None, False]
+>>> once = Damage(plan, [("t", 1)])
+>>> [once.slots(), once.until(), once.numbers(), once.longest()]
+[[('t', 1), ('t', 3), ('u', 3)], 1, [('t', 1, 1), ('t', 3, 0), ('u', 3, 0)], (('t', 1), ['end'], 0)]
+>>> [beginnings(plan), settles(plan, "t"), harm(plan, "t", ["more"], []), harm(plan, "t", ["more"], [0, 0])]
+[['s', 'u'], None, ('wrong', [('end', 0)]), ('right',)]
 """
 
 
@@ -102,6 +126,9 @@ class Examples(unittest.TestCase):
 
     def test_stage_5(self):
         self.check(STAGE_5)
+
+    def test_stage_6(self):
+        self.check(STAGE_6)
 
 
 if __name__ == "__main__":

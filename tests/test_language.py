@@ -106,6 +106,36 @@ class Language(unittest.TestCase):
                 if isinstance(node, ast.Call) and isinstance(node.func, ast.Attribute):
                     self.assertIn(node.func.attr, set(METHODS) | own)
 
+    def test_own_methods_are_called_where_they_stand(self):
+        own = set()
+        for _, tree in self.each():
+            for node in ast.walk(tree):
+                if isinstance(node, ast.ClassDef):
+                    plain = [one for one in node.body if isinstance(one, ast.FunctionDef) and not one.decorator_list]
+                    own |= {one.name for one in plain if not one.name.startswith("__")}
+        for _, tree in self.each():
+            called = [node.func for node in ast.walk(tree) if isinstance(node, ast.Call)]
+            for node in ast.walk(tree):
+                if isinstance(node, ast.Attribute) and node.attr in own:
+                    self.assertIn(node, called, node.attr)
+
+    def test_no_stars_in_calls(self):
+        for _, tree in self.each():
+            for node in ast.walk(tree):
+                self.assertNotIsInstance(node, ast.Starred)
+                if isinstance(node, ast.Call):
+                    self.assertNotIn(None, [keyword.arg for keyword in node.keywords])
+
+    def test_names_of_methods_and_properties(self):
+        methods, stored, properties = set(), set(), set()
+        for _, tree in self.each():
+            for node in ast.walk(tree):
+                if isinstance(node, ast.FunctionDef) and node.args.args and node.args.args[0].arg == "self":
+                    (properties if node.decorator_list else methods).add(node.name)
+                if isinstance(node, ast.Attribute) and isinstance(node.ctx, ast.Store):
+                    stored.add(node.attr)
+        self.assertEqual((methods & stored, properties & (methods | stored)), (set(), set()))
+
     def test_reversed_takes_lists(self):
         for _, tree in self.each():
             for node in ast.walk(tree):

@@ -35,7 +35,6 @@ class Facts:
 
     def equals(self, state):
         """All pairs of slots that are surely equal, ascending."""
-        self._check(state)
         # Where the greater slot is there, the lesser one is, too.
         slots = [slot for slot in range(1, self._plan.width + 1) if self.signs_in(state, slot) != ""]
         pairs = [(one, other) for one in slots for other in slots if one < other]

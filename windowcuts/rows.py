@@ -51,20 +51,30 @@ class RowPen:
 
 def is_row(plan, thing):
     """Whether any value is a row of the plan."""
-    return isinstance(thing, list) and _steps(plan, thing) == len(thing)
+    return isinstance(thing, list) and _many_on(plan, plan.start, thing) == len(thing)
 
 
 def state_behind(plan, names):
     """The state to which a row leads."""
-    _check_row(plan, names)
-    if len(names) == 0:
-        return plan.start
-    return plan[names[-1]][1]
+    return path_end(plan, plan.start, names)
 
 
 def holes(plan, names):
     """The choices of the holes of a row."""
-    _check_row(plan, names)
+    check_path(plan, plan.start, names)
+    return path_holes(plan, names)
+
+
+def path_end(plan, state, names):
+    """The state to which a path from a state leads, if the names are one."""
+    check_path(plan, state, names)
+    if len(names) == 0:
+        return state
+    return plan[names[-1]][1]
+
+
+def path_holes(plan, names):
+    """The choices of the holes of these edges."""
     found = []
     for name in names:
         found.extend(plan[name][2].holes())
@@ -126,9 +136,15 @@ def _able_once_more(lines, able):
     return {state: True for state in lines if any([target in able for _, target in lines[state]])}
 
 
-def _steps(plan, names):
-    """How many names, from the first one on, are a row."""
-    state = plan.start
+def check_path(plan, state, names):
+    """Raise NoRow for the least index at which no edge leads on from a state."""
+    at = _many_on(plan, state, names)
+    if at < len(names):
+        raise NoRow(at)
+
+
+def _many_on(plan, state, names):
+    """How many names, from the first one on, are a path from a state."""
     for at, name in enumerate(names):
         if name not in plan:
             return at
@@ -137,12 +153,6 @@ def _steps(plan, names):
             return at
         state = target
     return len(names)
-
-
-def _check_row(plan, names):
-    at = _steps(plan, names)
-    if at < len(names):
-        raise NoRow(at)
 
 
 def _check_fill(choices, fill):

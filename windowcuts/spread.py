@@ -63,21 +63,21 @@ class Line:
 
     def __init__(self, step):
         self.step = step
-        self._told = []
+        self._given = []
         self._heirs = {}
         for at, root in enumerate(step.origins):
             if root[0] == "slot":
                 self._heirs.setdefault(root[1], []).append(at + 1)
             else:
-                self._told.append((at + 1, root, told_signs(root, step.choices)))
+                self._given.append((at + 1, root, told_signs(root, step.choices)))
 
     def behind_row(self):
         """The nodes behind the step that hold whatever stands ahead, each with what it asks of the holes."""
         target = self.step.target
         found = [((target,), {})]
-        for at, (slot, root, signs) in enumerate(self._told):
+        for at, (slot, root, signs) in enumerate(self._given):
             found.extend([((target, slot, sign), wanted_signs(root, sign)) for sign in signs])
-            for other, another, others in self._told[at + 1:]:
+            for other, another, others in self._given[at + 1:]:
                 wanted = unlike_signs(root, signs, another, others)
                 if wanted is not None:
                     found.append((pair_node(target, slot, other), wanted))
@@ -89,7 +89,7 @@ class Line:
         found = []
         for heir in self._heirs.get(slot, []):
             found.append(((target, heir, sign), {}))
-            for other, root, signs in self._told:
+            for other, root, signs in self._given:
                 wanted = unlike_signs(("slot", slot), sign, root, signs)
                 if wanted is not None:
                     found.append((pair_node(target, heir, other), wanted))

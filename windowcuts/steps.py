@@ -42,9 +42,8 @@ def unlike_signs(one, ones, other, others):
     for sign in ones:
         for against in others:
             if sign != against:
-                wanted = wanted_signs(one, sign)
-                wanted.update(wanted_signs(other, against))
-                return wanted
+                wanted, more = wanted_signs(one, sign), wanted_signs(other, against)
+                return {**wanted, **more}
     return None
 
 

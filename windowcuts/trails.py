@@ -1,0 +1,48 @@
+"""Trails: where the sign in a slot comes to, through copies alone, along the edges that a plan has."""
+
+from windowcuts.leads import leads_from
+from windowcuts.roots import reader_roots
+
+
+class Trails:
+    """For each slot, a tuple (state, slot), what an edge from its state makes of its sign."""
+
+    def __init__(self, plan):
+        slots = [(state, slot) for state in plan.reached() for slot in range(1, plan.width + 1)]
+        self._moves = {slot: [] for slot in slots}
+        self._spots = {slot: [] for slot in slots}
+        for edge in plan.used():
+            source, target, piece = plan[edge]
+            roots = reader_roots(piece)
+            for index, (kind, told) in enumerate(roots):
+                if kind == "slot":
+                    self._spots[source, told].append((edge, index))
+            for slot, (kind, told) in enumerate(_slot_roots(plan.width, roots)):
+                if kind == "slot":
+                    self._moves[source, told].append((edge, (target, slot + 1)))
+
+    def moves(self, slot):
+        """The tuples (edge, slot) of the slots behind edges that have the sign of a slot."""
+        return list(self._moves[slot])
+
+    def spots(self, slot):
+        """The places (edge, index) of edges that are copies of a slot."""
+        return list(self._spots[slot])
+
+    def hanging(self, marks):
+        """The fewest edges to each slot that hangs on one of these: a dict as that of leads_from."""
+        return leads_from(marks, lambda slot: self._moves[slot])
+
+    def spoilt(self, slots):
+        """The places that are copies of any of these slots, ascending."""
+        found = {}
+        for slot in slots:
+            for place in self._spots[slot]:
+                found[place] = True
+        return sorted(found)
+
+
+def _slot_roots(width, roots):
+    """The reader roots of the slots behind a piece with these, from slot 1 on."""
+    ahead = [("slot", slot) for slot in range(1, width + 1)]
+    return (roots[::-1] + ahead)[:width]
