@@ -1,7 +1,7 @@
 import random
 import unittest
 
-from making import loops, made_plan, made_sound, one_line, raised, worlds
+from making import loops, made_sound, one_line, raised, worlds
 from oddities import ODD, but
 from test_roots import followed
 from windowcuts.claims import all_claims, are_claims

@@ -237,7 +237,7 @@ class AtRandom(unittest.TestCase):
 
     def test_signs_and_pairs(self):
         seen = [0, 0, 0]
-        for how in ({}, {"width": 4, "edges": "abcde"}, {"signs": "abc", "width": 2}):
+        for how in ({}, {"width": 4, "edges": "abcde"}, {"signs": "abc", "width": 2}, {"filled": True}):
             for plan, facts, found in self.plans(50, 60, **how):
                 before = plan.edges()
                 counted = Counted(plan, found)
