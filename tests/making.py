@@ -167,3 +167,72 @@ def along(plan, edge, node):
             told.append((kept, written))
             kept, written = min(kept + 1, plan.width), min(written + 1, plan.width)
     return told + [(kept, written)]
+
+
+def went_on(piece, fill, width, tail, kept):
+    """The writer's window, what the reader keeps, and the places they write unlike signs at; None for a refusal."""
+    left = list(fill)
+    index = 0
+    unlike = []
+    for token in piece.tokens():
+        kind = token[0]
+        if kind == "flush":
+            kept = ""
+            continue
+        for sign in token[1] if kind == "text" else [None] * (1 if kind == "any" else token[2]):
+            read = sign
+            if kind == "any":
+                sign = read = left.pop(0)
+            elif kind == "say":
+                sign = read = tail[-token[1]]
+            elif kind == "copy":
+                if token[1] > len(kept):
+                    return None
+                sign, read = tail[-token[1]], kept[-token[1]]
+            if sign != read:
+                unlike.append(index)
+            tail, kept = (tail + sign)[-width:], (kept + read)[-width:]
+            index += 1
+    return tail, kept, unlike
+
+
+def sixteen(kind, signs="abcdef", width=12):
+    """A sound plan with sixteen edges in rings, whose pieces behind the first one have forty signs, or 39 that are fixed."""
+    first = [("text", "abcabcabcabc")] if kind == "fixed" else [("any", signs)] * width
+    edges = {"in": ("s", "a", Piece(signs, first))}
+    for at, name in enumerate("abcdefghijklmno"):
+        if kind == "fixed":
+            tokens = [("copy", 3 * (1 + (at + k) % 4), 1) for k in range(39)]
+        elif kind == "any":
+            tokens = [[("copy", 1 + (at * k) % width, 1), ("any", signs), ("say", 1 + (at + k) % width, 1)][k % 3] for k in range(40)]
+        else:
+            tokens = [("copy", width - (at + k * k) % width, 1) for k in range(40)]
+        edges[name] = ("abcde"[at % 5], "abcde"[(at + at // 5 + 1) % 5], Piece(signs, tokens))
+    return Plan(signs, width, "s", edges)
+
+
+def turned(plan):
+    """An equal plan whose edges are handed in the other way round."""
+    edges = plan.edges()
+    return Plan(plan.signs, plan.width, plan.start, {name: edges[name] for name in list(edges)[::-1]})
+
+
+def parts_of(thing):
+    """All lists and dicts within what a function has returned."""
+    found = [thing] if isinstance(thing, (list, dict)) else []
+    for part in list(thing.values()) if isinstance(thing, dict) else thing if isinstance(thing, (list, tuple)) else []:
+        found += parts_of(part)
+    return found
+
+
+def check_new(test, call):
+    """Two calls give equal results whose lists are new, none of them standing there twice; one result is returned."""
+    first, second, third = call(), call(), call()
+    test.assertEqual(first, second)
+    lists = parts_of(first) + parts_of(second)
+    test.assertEqual(len({id(one) for one in lists}), len(lists))
+    for one in parts_of(first):
+        one.clear()
+    test.assertEqual(call(), third)
+    test.assertEqual(second, third)
+    return third

@@ -1,7 +1,7 @@
 import random
 import unittest
 
-from making import fills, loops, made_plan, made_sound, one_line, raised, worlds
+from making import fills, loops, made_plan, made_sound, one_line, raised, went_on, worlds
 from oddities import ODD
 from test_pieces import FLUSH
 from windowcuts.counts import unsound
@@ -13,33 +13,6 @@ from windowcuts.reading import Reader
 from windowcuts.rows import holes, is_row, rows_upto, state_behind, stream, texts
 
 A = Piece("ab", [("text", "a")])
-
-
-def went_on(piece, fill, width, tail, kept):
-    """The writer's window, what the reader keeps, and the places they write unlike signs at; None for a refusal."""
-    left = list(fill)
-    index = 0
-    unlike = []
-    for token in piece.tokens():
-        kind = token[0]
-        if kind == "flush":
-            kept = ""
-            continue
-        for sign in token[1] if kind == "text" else [None] * (1 if kind == "any" else token[2]):
-            read = sign
-            if kind == "any":
-                sign = read = left.pop(0)
-            elif kind == "say":
-                sign = read = tail[-token[1]]
-            elif kind == "copy":
-                if token[1] > len(kept):
-                    return None
-                sign, read = tail[-token[1]], kept[-token[1]]
-            if sign != read:
-                unlike.append(index)
-            tail, kept = (tail + sign)[-width:], (kept + read)[-width:]
-            index += 1
-    return tail, kept, unlike
 
 
 def counted(plan, state, names, order, limit=6000):

@@ -14,6 +14,12 @@ def check_sound(plan):
 
 def check_reached(plan, states, edges):
     """Raise Unknown, then Unreached, for the first of these states and edges that is so."""
+    check_known(plan, states, edges)
+    check_used(plan, states, edges)
+
+
+def check_known(plan, states, edges):
+    """Raise Unknown for the first of these states and edges that a plan has not at all."""
     known = plan.states()
     for state in states:
         if state not in known:
@@ -21,6 +27,10 @@ def check_reached(plan, states, edges):
     for edge in edges:
         if edge not in plan:
             raise Unknown(edge)
+
+
+def check_used(plan, states, edges):
+    """Raise Unreached for the first of these states and edges that no row comes to."""
     reached = plan.reached()
     for state in states:
         if state not in reached:

@@ -70,17 +70,27 @@ def kept_behind(width, kept, piece):
 
 def refused_places(piece, kept, written):
     """The copies and says of a piece that go back further than what is kept, or written, ahead of them."""
-    flushes = piece.flushes()
+    numbers = kept_ahead(piece, kept)
     found = []
     for index, (kind, told) in enumerate(piece.places()):
+        if (kind == "copy" and told > numbers[index]) or (kind == "say" and told > written + index):
+            found.append(index)
+    return found
+
+
+def kept_ahead(piece, kept):
+    """How many signs stand since the last flush ahead of each place, if so many are kept ahead of the piece.
+
+    More than the width is never kept, but no distance is greater than the width.
+    """
+    flushes = piece.flushes()
+    numbers = []
+    for index in range(len(piece)):
         if index in flushes:
             kept = 0
-        if (kind == "copy" and told > kept) or (kind == "say" and told > written):
-            found.append(index)
-        # More than the width is never kept, but no distance is greater than the width.
+        numbers.append(kept)
         kept = kept + 1
-        written = written + 1
-    return found
+    return numbers
 
 
 def _written_leads(plan):

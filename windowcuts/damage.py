@@ -10,8 +10,7 @@ def lost_marks(plan, edge):
     """The marks of a lost piece: of the slots behind an edge that its signs come to, ascending."""
     check_sound(plan)
     check_reached(plan, [], [edge])
-    _, target, piece = plan[edge]
-    return _marks(target, min(len(piece), plan.width))
+    return marks_behind(plan, edge)
 
 
 def state_marks(plan, state):
@@ -19,6 +18,19 @@ def state_marks(plan, state):
     check_sound(plan)
     check_reached(plan, [state], [])
     return _marks(state, plan.width)
+
+
+def marks_behind(plan, edge):
+    """The marks with the slots behind an edge that its signs come to, ascending."""
+    _, target, piece = plan[edge]
+    return _marks(target, min(len(piece), plan.width))
+
+
+def latest_of(numbers, marks):
+    """The greatest number of any of the marks, 0 for none, None if one of them has none."""
+    if not all([mark in numbers for mark in marks]):
+        return None
+    return max([0] + [numbers[mark] for mark in marks])
 
 
 def _marks(state, many):
@@ -33,11 +45,10 @@ class Damage:
         check_reached(plan, [state for state, _ in marks], [])
         self._width = plan.width
         self._reached = plan.reached()
-        self._sizes = {edge: len(plan[edge][2]) for edge in plan.used()}
         self._marks = sorted({mark: True for mark in marks})
         self._trails = Trails(plan)
         self._leads = self._trails.hanging(self._marks)
-        self._numbers = self._settled()
+        self._numbers = self._trails.latest()
 
     def slots(self):
         """All slots that hang on a mark, ascending."""
@@ -49,9 +60,7 @@ class Damage:
 
     def until(self):
         """The greatest number of signs at which a place is spoilt, 0 for none, None for no greatest one."""
-        if self._is_endless():
-            return None
-        return max([0] + [self._numbers[mark] for mark in self._marks])
+        return latest_of(self._numbers, self._marks)
 
     def longest(self):
         """A mark, a path and a place of its last edge that is spoilt at the greatest number, or None."""
@@ -64,7 +73,7 @@ class Damage:
 
     def ring(self):
         """A mark, a path to a slot, and a path that leads its sign round to it, or None."""
-        if not self._is_endless():
+        if self.until() is not None:
             return None
         slot = [one for one in self.slots() if one not in self._numbers][0]
         walk = []
@@ -78,7 +87,7 @@ class Damage:
 
     def numbers(self):
         """The tuples (state, slot, number) of all hanging slots, ascending, or None if until() is."""
-        if self._is_endless():
+        if self.until() is None:
             return None
         return [(state, slot, self._numbers[state, slot]) for state, slot in self.slots()]
 
@@ -91,35 +100,6 @@ class Damage:
             return False
         return all([self._is_late_enough(slot, numbers) for slot in numbers])
 
-    def _is_endless(self):
-        return len(self._numbers) < len(self._leads)
-
-    def _settled(self):
-        """The numbers of the hanging slots from which no ring is come to."""
-        waits = {slot: len(self._trails.moves(slot)) for slot in self._leads}
-        ahead = {slot: [] for slot in self._leads}
-        for slot in self._leads:
-            for _, behind in self._trails.moves(slot):
-                ahead[behind].append(slot)
-        ready = [slot for slot in self._leads if waits[slot] == 0]
-        numbers = {}
-        while len(ready) > 0:
-            settled = ready.pop()
-            numbers[settled] = self._number(settled, numbers)
-            for slot in ahead[settled]:
-                waits[slot] = waits[slot] - 1
-                if waits[slot] == 0:
-                    ready.append(slot)
-        return numbers
-
-    def _number(self, slot, numbers):
-        """The greatest number for a slot, if those of the slots behind it are known."""
-        found = [0] + [index + 1 for _, index in self._trails.spots(slot)]
-        for edge, behind in self._trails.moves(slot):
-            if numbers[behind] > 0:
-                found.append(self._sizes[edge] + numbers[behind])
-        return max(found)
-
     def _latest(self, mark):
         """A path from a slot, and the place of its last edge that is spoilt at the number of the slot."""
         path = []
@@ -127,14 +107,14 @@ class Damage:
         while number not in [index + 1 for _, index in self._trails.spots(slot)]:
             edge, slot = self._move_to(slot, number)
             path.append(edge)
-            number = number - self._sizes[edge]
+            number = number - self._trails.size(edge)
         edge = [place[0] for place in self._trails.spots(slot) if place[1] + 1 == number][0]
         return path + [edge], number - 1
 
     def _move_to(self, slot, number):
         """The first move from a slot that leaves of a number just what the slot behind has."""
         moves = [move for move in self._trails.moves(slot) if self._numbers[move[1]] > 0]
-        return [move for move in moves if self._sizes[move[0]] + self._numbers[move[1]] == number][0]
+        return [move for move in moves if self._trails.size(move[0]) + self._numbers[move[1]] == number][0]
 
     def _is_number(self, thing):
         if not isinstance(thing, tuple) or len(thing) != 3:
@@ -151,6 +131,6 @@ class Damage:
         for edge, behind in self._trails.moves(slot):
             if behind not in numbers:
                 return False
-            if numbers[behind] > 0 and numbers[behind] + self._sizes[edge] > number:
+            if numbers[behind] > 0 and numbers[behind] + self._trails.size(edge) > number:
                 return False
         return True

@@ -5,7 +5,7 @@ from windowcuts.checks import check_reached, check_sound
 from windowcuts.counts import kept_behind, least_kept, refused_places
 from windowcuts.facts import Facts
 from windowcuts.frames import Frame
-from windowcuts.kinds import is_integer
+from windowcuts.kinds import is_spot
 from windowcuts.leads import way_to
 from windowcuts.roots import text_roots
 from windowcuts.rows import path_end, path_holes
@@ -29,7 +29,7 @@ def harm(plan, state, names, order):
 def harm_shown(plan, state, names, order, place):
     """A row, a fill and a path on which a place is read wrongly, or None."""
     end = _checked_end(plan, state, names)
-    if not _is_place(place) or _short_path(plan, state, names, order, end) is not None:
+    if not is_spot(place) or _short_path(plan, state, names, order, end) is not None:
         return None
     unlike = Unlikeness(plan, state, names, order)
     trails = Trails(plan)
@@ -106,8 +106,3 @@ def _block_roots(frame, piece):
     for place, root in zip(piece.places(), text_roots(piece)):
         roots.append(place if place[0] == "copy" else frame.root_here(root))
     return roots
-
-
-def _is_place(thing):
-    """Whether any value is a tuple of a string and an integer."""
-    return isinstance(thing, tuple) and len(thing) == 2 and isinstance(thing[0], str) and is_integer(thing[1])

@@ -44,6 +44,11 @@ def is_choice(signs, thing):
     return is_text(signs, thing) and _ascends(thing)
 
 
+def is_spot(thing):
+    """Whether any value is a tuple of a string and an integer, as places and marks are."""
+    return isinstance(thing, tuple) and len(thing) == 2 and isinstance(thing[0], str) and is_integer(thing[1])
+
+
 def is_sign(choice, thing):
     """Whether any value is one sign of a choice."""
     return isinstance(thing, str) and len(thing) == 1 and thing in choice

@@ -51,7 +51,12 @@ class RowPen:
 
 def is_row(plan, thing):
     """Whether any value is a row of the plan."""
-    return isinstance(thing, list) and _many_on(plan, plan.start, thing) == len(thing)
+    return is_path(plan, plan.start, thing)
+
+
+def is_path(plan, state, thing):
+    """Whether any value is a list that is a path from a state."""
+    return isinstance(thing, list) and _many_on(plan, state, thing) == len(thing)
 
 
 def state_behind(plan, names):

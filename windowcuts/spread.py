@@ -23,6 +23,10 @@ class Spread:
         """The signs that stand in a slot, ascending."""
         return "".join([sign for sign in self._signs if (state, slot, sign) in self._leads])
 
+    def holds_unlike(self, state, one, other):
+        """Whether two slots are there with unlike signs behind some row."""
+        return pair_node(state, one, other) in self._leads
+
     def row_to(self, node):
         """The row with the fewest edges, and the fill, behind which a node holds, or None."""
         if node not in self._leads:
@@ -37,8 +41,8 @@ class Spread:
     def unlike_lead(self, state, one, other, choices):
         """The node with the fewest edges behind which two roots are unlike, and the wanted signs, or None."""
         if one[0] == "slot" and other[0] == "slot":
-            node = pair_node(state, one[1], other[1])
-            return (node, {}) if node in self._leads else None
+            unlike = self.holds_unlike(state, one[1], other[1])
+            return (pair_node(state, one[1], other[1]), {}) if unlike else None
         if other[0] == "slot":
             one, other = other, one
         best = None

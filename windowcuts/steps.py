@@ -19,9 +19,14 @@ def plan_steps(plan):
     steps = []
     for edge in plan.used():
         source, target, piece = plan[edge]
-        frame = Frame(plan.width) << piece
-        steps.append(Step(edge, source, target, frame.roots(), frame.holes()))
+        steps.append(step_along(edge, source, target, piece, plan.width))
     return steps
+
+
+def step_along(edge, source, target, piece, width):
+    """The step of an edge with a piece, for so many slots."""
+    frame = Frame(width) << piece
+    return Step(edge, source, target, frame.roots(), frame.holes())
 
 
 def told_signs(root, choices):
