@@ -103,6 +103,57 @@ STAGE_6 = """
 [['s', 'u'], None, ('wrong', [('end', 0)]), ('right',)]
 """
 
+STAGE_7 = """
+>>> from windowcuts.pieces import Piece
+>>> from windowcuts.plans import Plan
+>>> from windowcuts.likes import compare
+>>> from windowcuts.pressing import beginning_prices, fixed_sign, pressed, right_distances
+>>> echo = Piece("ab", [("copy", 2, 2), ("text", "ab"), ("copy", 2, 2)])
+>>> plan = Plan("ab", 4, "s", {"in": ("s", "t", Piece("ab", [("text", "ab")])), "on": ("t", "t", echo)})
+>>> [fixed_sign(plan, "on", 0), right_distances(plan, "on", 0), right_distances(plan, "on", 2)]
+['a', [2], [2, 4]]
+>>> [beginning_prices(plan, "on"), pressed(plan)[1], pressed(plan)[0]["on"][2].tokens()]
+[[0, 1, 2, 2, 2, 2, 2], {'in': 2, 'on': 2}, [('copy', 2, 6)]]
+>>> [compare(plan, pressed(plan)[0]), compare(plan, plan.changed("on", "t", "t", Piece("ab", [("any", "ab")])))]
+[('alike', [('s', 's'), ('t', 't')]), ('holes', ['in', 'on'])]
+>>> compare(plan, plan.changed("on", "t", "t", Piece("ab", [("text", "abaab")])))
+('texts', ['in', 'on'], [])
+"""
+
+STAGE_8 = """
+>>> from windowcuts.pieces import Piece
+>>> from windowcuts.plans import Plan
+>>> from windowcuts.damage import Damage, lost_marks
+>>> from windowcuts.flushing import cheapest_flushes, flushed, worst_loss
+>>> from windowcuts.live import live, live_path
+>>> from windowcuts.spelling import cheapest_spelling, spelled
+>>> begin, more = Piece("ab", [("any", "ab"), ("text", "a")]), Piece("ab", [("copy", 2, 1), ("text", "b")])
+>>> edges = {"new": ("s", "t", begin), "more": ("t", "t", more), "end": ("t", "u", Piece("ab", [("copy", 1, 2)]))}
+>>> plan = Plan("ab", 3, "s", edges)
+>>> [live(plan, "t"), live_path(plan, "t", 2), worst_loss(plan)]
+[[1, 2], (['more'], 0), ('more', None)]
+>>> cheapest_spelling(plan, [("t", 2)], [("more", 0)], {"more": 3})[:2]
+(3, [('more', 0)])
+>>> quiet = spelled(plan, [("more", 0)])
+>>> [quiet["more"][2].tokens(), worst_loss(quiet), cheapest_flushes(plan, [("t", 5)], 0)]
+[[('say', 2, 1), ('text', 'b')], ('more', 2), (5, (0,))]
+>>> flushed(plan, ["t"])["end"][2].tokens()
+[('flush',), ('say', 1, 1), ('copy', 1, 1)]
+"""
+
+STAGE_9 = STAGE_8 + """
+>>> from windowcuts.desk import Desk
+>>> from windowcuts.draft import Draft
+>>> from windowcuts.notation import read_row, show_plan
+>>> show_plan(plan)
+'plan ab 3 s\\nedge end t u c1.2\\nedge more t t c2.1 =b\\nedge new s t ?ab =a\\n'
+>>> desk = Desk(plan)
+>>> [desk.execute("lost more"), desk.execute("equals t"), desk.execute("text new more"), desk.execute("alone")]
+['ever end/0 end/1 more/0', 'none', 'aa ab', 's u']
+>>> [desk.execute("take end"), desk.execute("edge end t u s1.1"), desk.execute("back"), read_row("new more")]
+['1', '2', '1', ['new', 'more']]
+"""
+
 
 class Examples(unittest.TestCase):
     def check(self, text):
@@ -129,6 +180,15 @@ class Examples(unittest.TestCase):
 
     def test_stage_6(self):
         self.check(STAGE_6)
+
+    def test_stage_7(self):
+        self.check(STAGE_7)
+
+    def test_stage_8(self):
+        self.check(STAGE_8)
+
+    def test_stage_9(self):
+        self.check(STAGE_9)
 
 
 if __name__ == "__main__":
