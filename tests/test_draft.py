@@ -136,8 +136,10 @@ class Edits(unittest.TestCase):
         ]:
             self.refused(draft, NoEdit, call, *arguments)
         draft.back()
-        draft.take("a")
-        self.assertEqual(len(draft), 100)
+        for edit in (lambda: draft.take("a"), lambda: draft.widen(2), lambda: draft.begin("q"), lambda: self.put(draft, "a", ("s", "t", A))):
+            edit()
+            self.assertEqual(len(draft), 100)
+            draft.back()
 
     def test_full_of_the_edges_of_a_plan(self):
         draft = self.full(98)
@@ -362,6 +364,13 @@ class Equal(unittest.TestCase):
         for at, one in enumerate(plans):
             for on, other in enumerate(plans):
                 self.assertIs(Draft(one) == Draft(other), at == on)
+
+    def test_signs_of_drafts_without_edges(self):
+        drafts = [Draft(loops(3, signs=signs, a=[("text", "a")])) for signs in ("ab", "ab", "abc")]
+        for draft in drafts:
+            draft.take("a")
+        self.assertTrue(drafts[0] == drafts[1])
+        self.assertFalse(drafts[0] == drafts[2])
 
     def test_logs(self):
         one, other = Draft(two()), Draft(two().changed("a", "s", "t", B))

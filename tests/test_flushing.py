@@ -321,6 +321,14 @@ class TooLate(unittest.TestCase):
         for limit in (0, 10, 11, 500, 1000):
             self.assertIsNot(self.check(slow, limit), None)
 
+    def test_a_path_that_ends_at_the_limit(self):
+        plan = Plan("ab", 6, "s", {
+            "in": ("s", "t", Piece("ab", [("any", "ab")] * 3)), "x": ("t", "u", A), "y": ("t", "v", A + A),
+            "k": ("u", "w", Piece("ab", [("copy", 2, 1)])), "m": ("v", "w", Piece("ab", [("copy", 3, 1)])),
+        })
+        self.assertEqual(self.check(plan, 2), ("in", ["y", "m"], 0))
+        self.assertIs(self.check(plan, 3), None)
+
     def test_a_last_place_later_than_the_limit(self):
         plan, _ = one_line([("any", "ab")], [("copy", 1, 40)], [("text", "a"), ("copy", 1, 3)])
         for limit in (0, 20, 38, 39):

@@ -134,7 +134,7 @@ class ByHand(unittest.TestCase):
 
 class Errors(unittest.TestCase):
     plan = Plan("ab", 3, "s", {"a": ("s", "t", A), "b": ("t", "t", A), "x": ("x", "y", A)})
-    other = Plan("ab", 3, "k", {"l": ("k", "m", A), "q": ("n", "n", A)})
+    other = Plan("ab", 3, "k", {"l": ("k", "m", A), "q": ("n", "n", Piece("ab", [("copy", 3, 1)]))})
     short, _ = one_line([("text", "a"), ("copy", 3, 4)])
     early, _ = one_line([("copy", 1, 1)])
 

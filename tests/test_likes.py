@@ -441,8 +441,12 @@ class Claims(unittest.TestCase):
             (list(pair), 1, 2), ("t", 1, 2), (("t", "p"), 1, 2), (("q", "t"), 1, 2), (pair, 1, "2"), (pair, 1, None), (("t",), 1, 2),
         ]:
             self.assertFalse(self.holds(self.pairs, self.values, self.equals + [claim]), claim)
-        for thing in [["t", "q"], ("t",), ("t", "q", "q"), "tq", ("t", "z"), ("z", "q"), ("q", "t"), ("t", None), (None, "q"), ("t", ["q"])]:
+        for thing in [["t", "q"], ("t",), ("t", "q", "q"), "tq", ("t", "z"), ("z", "q"), ("q", "t"), ("t", None), (None, "q"), ("t", ["q"]), (["t"], "q")]:
             self.assertFalse(self.holds(self.pairs + [thing], self.values, self.equals), thing)
+            values = [(thing, slot, "ab") for slot in (1, 2)]
+            self.assertFalse(self.holds(self.pairs + [thing], self.values + values, self.equals), thing)
+            self.assertFalse(self.holds(self.pairs, self.values + values, self.equals), thing)
+            self.assertFalse(self.holds(self.pairs, self.values, self.equals + [(thing, 1, 2)]), thing)
 
     def test_all_signs_and_all_equals_or_none(self):
         everything = [(pair, slot, "ab") for pair in self.pairs for slot in (1, 2)]

@@ -125,6 +125,19 @@ class Flow(unittest.TestCase):
         self.assertEqual(self.check(nodes, lines, ["a"], ["e"]), 2)
         self.assertEqual(self.check(nodes, lines, ["a", "d"], ["e", "b"]), 3)
 
+    def test_what_is_borne_round_in_rings(self):
+        """The first ways go z, a, b, w and y, a, c, v; what then comes to w and v turns them back, and rings are left at a."""
+        nodes = dict.fromkeys(["z", "y", "w", "v", "q", "r"] + [f"{letter}{at}" for letter in "mnop" for at in range(8)], 1)
+        nodes = {**nodes, "a": 5, "b": 2, "c": 2}
+        one = [("z", "a"), ("a", "b"), ("b", "w"), ("b", "a"), ("q", "a"), ("a", "r"), ("m4", "w"), ("z", "n0")]
+        both = one + [("y", "a"), ("a", "c"), ("c", "v"), ("c", "a"), ("o4", "v"), ("y", "p0")]
+        ends = [(f"{letter}{at}", f"{letter}{at + 1}") for letter, many in (("m", 4), ("n", 7), ("o", 4), ("p", 7)) for at in range(many)]
+        for lines, sources, sinks, amount in [
+            (one, ["z", "m0", "q"], ["w", "r", "n7"], 3), (both, ["z", "y", "m0", "o0", "q"], ["w", "v", "r", "n7", "p7"], 5),
+        ]:
+            for order in (lines + ends, ends + lines[::-1]):
+                self.assertEqual(self.check(nodes, order, sources, sinks), amount)
+
     def test_any_strings(self):
         nodes = {"": 2, " ": 5, "A b/~": 3, "a\nb": 4}
         self.assertEqual(self.check(nodes, [("", " "), (" ", "A b/~"), ("A b/~", "a\nb")], [""], ["a\nb"]), 2)

@@ -342,6 +342,21 @@ class Judged(unittest.TestCase):
         # Said at both places of c, which costs more than need be, no ways can show it.
         self.assertFalse(self.holds((4, [("c", 0), ("c", 1)], [(2, ("t", 1), *one), (2, ("t", 1), *two)]), plan=plan, marks=marks, wished=wished, prices=prices))
 
+    def test_other_marks(self):
+        plan, _ = one_line([("any", "ab"), ("any", "ab")], [("copy", 1, 1), ("copy", 3, 1)])
+        told = {"plan": plan, "wished": [("b", 0), ("b", 1)], "prices": {}}
+        first, second = (1, ("t", 1), ["b"], [(0, 0)]), (1, ("t", 2), ["b"], [(0, 1)])
+        self.assertTrue(self.holds((1, [("b", 0)], [first]), marks=[("t", 1)], **told))
+        self.assertFalse(self.holds((1, [("b", 0)], [second]), marks=[("t", 1)], **told))
+        self.assertTrue(self.holds((1, [("b", 1)], [second]), marks=[("t", 2)], **told))
+        self.assertTrue(self.holds((2, [("b", 0), ("b", 1)], [second, first]), marks=[("t", 2), ("t", 1)], **told))
+
+    def test_a_place_of_the_last_edge(self):
+        ring = Plan("ab", 1, "s", {"in": ("s", "t", A), "on": ("t", "t", Piece("ab", [("copy", 1, 1)]))})
+        told = {"plan": ring, "marks": [("t", 1)], "wished": [("on", 0)], "prices": {}}
+        self.assertTrue(self.holds((1, [("on", 0)], [(1, ("t", 1), ["on"], [(0, 0)])]), **told))
+        self.assertFalse(self.holds((1, [("on", 0)], [(1, ("t", 1), ["on", "on"], [(0, 0)])]), **told))
+
     def test_a_place_that_stands_twice_in_a_way(self):
         ring = Plan("ab", 1, "s", {"in": ("s", "t", A), "on": ("t", "t", Piece("ab", [("copy", 1, 1)])), "end": ("t", "u", Piece("ab", [("copy", 1, 1)]))})
         marks, wished = [("t", 1)], [("end", 0)]
@@ -356,6 +371,8 @@ class Judged(unittest.TestCase):
         free = {"on": 0, "x": 0, "end": 3}
         self.assertTrue(self.holds((0, [("on", 0)], []), prices={"on": 0, "end": 3}))
         self.assertTrue(self.holds((0, [("on", 0), ("on", 2)], []), prices={"on": 0, "end": 3}))
+        for places in [[("on", 2), ("on", 0)], [("on", 0), ("on", 0)], [("on", 0), ("on", 2), ("on", 0)], [("on", 0), ("on", 2), ("on", 2)]]:
+            self.assertFalse(self.holds((0, places, []), prices={"on": 0, "end": 3}))
         error = raised(self, Unreached, is_spelling, self.plan, self.marks, self.wished, free, (0, [], []))
         self.assertEqual(error.name, "x")
 

@@ -38,8 +38,8 @@ def _unlike_slots(plan, state, other, its):
     ours, others = Facts(plan), Facts(other)
     found = []
     for slot in range(1, plan.width + 1):
-        one, another = ours.signs_in(state, slot), others.signs_in(its, slot)
-        # Any row of the one meets any row of the other, so just one sign in both is always the same.
-        if one != "" and another != "" and (one != another or len(one) > 1):
+        # Any row of the one meets any row of the other. What is not there on each of them is never read.
+        one = ours.signs_in(state, slot)
+        if one != others.signs_in(its, slot) or len(one) > 1:
             found.append((its, slot))
     return found

@@ -128,7 +128,7 @@ def _plan_line(words):
 
 def _edge_line(signs, width, words):
     """The name, the states and the piece that a line tells, or None."""
-    if len(words) < 5 or words[0] != "edge" or not all([is_name(word) for word in words[1:4]]):
+    if words[0] != "edge" or not all([is_name(word) for word in words[1:4]]):
         return None
     piece = words_piece(signs, words[4:])
     if piece is None or not fits(signs, width, piece):

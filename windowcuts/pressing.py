@@ -102,21 +102,18 @@ class EdgeSigns:
 
 def _cheapest(known, sign_price, copy_price):
     """The least prices of all beginnings of a piece, and the places of a cheapest one."""
-    flushes = known.piece().flushes()
     best = (0, [])
-    # For each distance, the cheapest places that end with a copy of this distance.
+    # For each distance, the cheapest places that end with a copy of this distance. None goes on over a flush,
+    # as nothing is kept behind it.
     copies = {}
     numbers = [0]
     for index, place in enumerate(known.piece().places()):
-        if index in flushes:
-            copies = {}
         ahead = copies
         copies = {}
         if place[0] != "hole":
             for distance in known.distances(index):
-                price, places = best[0] + copy_price, best[1]
-                if distance in ahead and ahead[distance][0] <= price:
-                    price, places = ahead[distance]
+                # To go on with a copy costs nothing, so it is never dearer than a new one.
+                price, places = ahead.get(distance, (best[0] + copy_price, best[1]))
                 copies[distance] = (price, places + [("copy", distance)])
         best = (best[0] + sign_price, best[1] + [_told(known, index, place)])
         for distance in copies:
